@@ -1,0 +1,1 @@
+"""Machines that go on by chance, compared by walking both at once."""

@@ -1,0 +1,72 @@
+"""What kind of thing an object is: integers, indexes, names and dicts over pairs of indexes."""
+
+from bothwalks.errors import NoState
+
+LETTERS = "abcdefghijklmnopqrstuvwxyz"
+
+
+def is_whole(thing):
+    """Whether a thing is an integer; a flag is none."""
+    return isinstance(thing, int) and not isinstance(thing, bool)
+
+
+def is_between(least, most, thing):
+    """Whether a thing is an integer from least to most."""
+    return is_whole(thing) and least <= thing <= most
+
+
+def is_index(many, thing):
+    """Whether a thing is an index below many."""
+    return is_between(0, many - 1, thing)
+
+
+def check_state(size, state):
+    """Raise NoState for any object that is no state of a machine of this size."""
+    if not is_index(size, state):
+        raise NoState(state)
+
+
+def is_name(thing):
+    """Whether a thing is a string of 1 to 8 letters a to z."""
+    if not isinstance(thing, str) or not 1 <= len(thing) <= 8:
+        return False
+    return all([letter in LETTERS for letter in thing])
+
+
+def is_tuple_of(many, thing):
+    """Whether a thing is a tuple of so many items."""
+    return isinstance(thing, tuple) and len(thing) == many
+
+
+def is_index_pair(many, thing):
+    """Whether a thing is a pair of indexes below many."""
+    return is_tuple_of(2, thing) and is_index(many, thing[0]) and is_index(many, thing[1])
+
+
+def is_index_row(many, thing):
+    """Whether a thing is a nonempty tuple of unlike indexes below many."""
+    if not isinstance(thing, tuple) or not thing:
+        return False
+    return all([is_index(many, part) for part in thing]) and len(set(thing)) == len(thing)
+
+
+def index_pairs(many):
+    """All pairs of indexes below many, ascending."""
+    return [(one, other) for one in range(many) for other in range(many)]
+
+
+def unlike_pairs(many):
+    """All pairs of unlike indexes below many, ascending."""
+    return [(one, other) for one, other in index_pairs(many) if one != other]
+
+
+def has_keys(keys, thing):
+    """Whether a thing is a dict with just these pairs of integers as keys.
+
+    A flag equals an integer as a key; so each key is looked at itself.
+    """
+    if not isinstance(thing, dict) or len(thing) != len(keys):
+        return False
+    if not all([is_tuple_of(2, key) and is_whole(key[0]) and is_whole(key[1]) for key in thing]):
+        return False
+    return all([key in thing for key in keys])

@@ -1,0 +1,87 @@
+"""What several tests need: odd objects, chains drawn from a seed, and sums in fractions."""
+
+import random
+import unittest
+from fractions import Fraction
+
+from bothwalks.errors import BadSteps
+from bothwalks.shares import Share
+
+S = Share
+h = S(1, 2)
+
+
+def fraction(share):
+    """A share or an integer as a Fraction, which knows nothing of the package."""
+    if isinstance(share, Share):
+        return Fraction(share.top, share.bottom)
+    return Fraction(share)
+
+
+def fractions(row):
+    return [fraction(share) for share in row]
+
+
+def odd_objects():
+    """Objects of the built-in kinds but floats, and of the package's own classes, also nested 30 deep."""
+    deep_tuple, deep_list, deep_dict = (), [], {}
+    for _ in range(29):
+        deep_tuple, deep_list, deep_dict = (deep_tuple,), [deep_list], {0: deep_dict}
+    return [
+        None, True, False, -1, 10 ** 30, -(10 ** 30), 1j, 0j, "", "a", "abcdefghi", "A", "a b", "1/2",
+        b"", b"a", bytearray(b"a"), memoryview(b"a"),
+        (), (None,), (True,), (0, 0, 0, "x"), ("a", 1), ((),), [], [0], ["a"], [(0, 1)], {}, {0: 0}, {"a": 1},
+        {(0, True): 1}, {(False, True): 1}, {(0, 0): None}, {(0, 1, 2): 1}, {None: None}, {(0, 1j): 1}, {"ab": 1},
+        {frozenset(): 1}, {((0, 1), 1): 1}, {b"ab": 1},
+        set(), {0}, {(0, 1)}, frozenset(), frozenset({0}), range(3), range(0), range(10 ** 30), slice(0, 1),
+        Ellipsis, NotImplemented, object(), object, int, type, Share, len, lambda: 0, (x for x in ()),
+        iter([]), zip(), enumerate([]), reversed([]), map(len, []), ValueError("x"), {}.keys(), {0: 1}.items(),
+        [].append, property(), unittest,
+        Share(1, 2), Share(-3), Share(10 ** 13, 3), BadSteps(1),
+        (Share(1, 2), None), [Share(1, 2), Share(1, 2)], {0: Share(1)},
+        deep_tuple, deep_list, deep_dict,
+    ]
+
+
+class Case(unittest.TestCase):
+    """A test case that can ask for an error with just what it keeps."""
+
+    def refuses(self, error, kept, call, *given):
+        """The call raises this very error, and each thing that it keeps is the one that is told."""
+        try:
+            call(*given)
+        except ValueError as e:
+            self.assertIs(type(e), error)
+            self.assertEqual(sorted(vars(e)), sorted(kept))
+            for name, thing in kept.items():
+                if isinstance(thing, (int, str)):
+                    self.assertIs(type(getattr(e, name)), type(thing))
+                    self.assertEqual(getattr(e, name), thing)
+                else:
+                    self.assertIs(getattr(e, name), thing)
+        else:
+            self.fail(f"{error.__name__} was not raised")
+
+    def is_share(self, thing):
+        self.assertIs(type(thing), Share)
+
+    def are_shares(self, row):
+        for thing in row:
+            self.is_share(thing)
+
+    def judges(self, right, judge, *given):
+        """A judge gives just this flag."""
+        self.assertIs(judge(*given), right)
+
+
+def drawn_spread(draw, many, zeros=0.3):
+    """A spread drawn from a source, of shares with small bottoms, some of them 0."""
+    parts = [0 if draw.random() < zeros else draw.randint(1, 5) for _ in range(many)]
+    if not any(parts):
+        parts[draw.randrange(many)] = 1
+    return tuple(S(part, sum(parts)) for part in parts)
+
+
+def source(seed):
+    """A source that draws the same in each run."""
+    return random.Random(seed)

@@ -1,0 +1,105 @@
+"""The interface's names and arguments, and those rules of the language that a look at the files can tell."""
+
+import ast
+import unittest
+from pathlib import Path
+
+FOLDER = Path(__file__).resolve().parent.parent / "bothwalks"
+LIBRARY = {"math": {"gcd", "lcm", "isqrt", "comb", "perm", "factorial"}}
+
+FUNCTIONS = {
+    "shares": {"is_spread": "many thing", "pick": "spread share"},
+    "equations": {"solve": "rows right"},
+    "amounts": {
+        "amounts": "rows right", "cheapest": "rows right costs", "is_amounts": "rows right thing",
+        "is_refusal": "rows right thing",
+    },
+    "carrying": {
+        "carry": "p q costs", "is_plan": "p q thing", "is_prices": "costs thing", "plan_cost": "costs plan",
+        "worth": "p q prices",
+    },
+}
+METHODS = {
+    "shares": {"Share": {"__init__": "top bottom", "over": "other", "less": "other"}},
+}
+
+
+def files():
+    return sorted(FOLDER.rglob("*.py"))
+
+
+def tree(path):
+    return ast.parse(path.read_text(encoding="utf-8"))
+
+
+def arguments(function):
+    return [argument.arg for argument in function.args.args]
+
+
+class InterfaceTest(unittest.TestCase):
+
+    def test_functions_are_defined_in_their_files_with_their_arguments(self):
+        for name, functions in FUNCTIONS.items():
+            body = tree(FOLDER / f"{name}.py").body
+            defined = {part.name: part for part in body if isinstance(part, ast.FunctionDef)}
+            for function, told in functions.items():
+                self.assertEqual(arguments(defined[function]), told.split(), f"{name}.{function}")
+
+    def test_methods_are_defined_in_their_classes_with_their_arguments(self):
+        for name, classes in METHODS.items():
+            body = tree(FOLDER / f"{name}.py").body
+            defined = {part.name: part for part in body if isinstance(part, ast.ClassDef)}
+            for kind, methods in classes.items():
+                own = {part.name: part for part in defined[kind].body if isinstance(part, ast.FunctionDef)}
+                for method, told in methods.items():
+                    self.assertEqual(arguments(own[method])[1:], told.split(), f"{name}.{kind}.{method}")
+
+
+class LanguageTest(unittest.TestCase):
+
+    def test_the_folder_holds_files_of_the_package_only(self):
+        for path in FOLDER.rglob("*"):
+            if "__pycache__" not in path.parts:
+                self.assertEqual(path.suffix, ".py", path)
+
+    def test_sizes_and_characters(self):
+        for path in files():
+            lines = path.read_text(encoding="utf-8").split("\n")
+            self.assertLess(len(lines), 400, path)
+            for line in lines:
+                self.assertLessEqual(len(line), 120, path)
+                self.assertTrue(all(" " <= sign <= "~" for sign in line), f"{path}: {line}")
+
+    def test_functions_are_small(self):
+        for path in files():
+            for part in ast.walk(tree(path)):
+                if isinstance(part, ast.FunctionDef):
+                    self.assertLessEqual(part.end_lineno - part.lineno + 1, 40, f"{path}: {part.name}")
+
+    def test_imports(self):
+        for path in files():
+            bodies = [part for part in ast.walk(tree(path)) if isinstance(part, (ast.Import, ast.ImportFrom))]
+            for part in bodies:
+                self.assertIsInstance(part, ast.ImportFrom, path)
+                names = {alias.name for alias in part.names}
+                if not part.module.startswith("bothwalks."):
+                    self.assertLessEqual(names, LIBRARY[part.module], path)
+                else:
+                    body = tree(FOLDER / f"{part.module.split('.')[1]}.py").body
+                    defined = {found.name for found in body if isinstance(found, (ast.FunctionDef, ast.ClassDef))}
+                    targets = [found.targets[0].id for found in body if isinstance(found, ast.Assign)]
+                    self.assertLessEqual(names, defined.union(targets), path)
+
+    def test_what_the_language_leaves_out(self):
+        left_out = (
+            ast.GeneratorExp, ast.Global, ast.AsyncFunctionDef, ast.Div, ast.SetComp, ast.Try, ast.Delete,
+        )
+        for path in files():
+            for part in ast.walk(tree(path)):
+                self.assertNotIsInstance(part, left_out, f"{path}: {getattr(part, 'lineno', '')}")
+                if isinstance(part, ast.Constant):
+                    self.assertNotIsInstance(part.value, (float, complex), path)
+
+
+if __name__ == "__main__":
+    unittest.main()
