@@ -27,6 +27,7 @@ def odd_objects():
     deep_tuple, deep_list, deep_dict = (), [], {}
     for _ in range(29):
         deep_tuple, deep_list, deep_dict = (deep_tuple,), [deep_list], {0: deep_dict}
+    from bothwalks.chains import Chain
     return [
         None, True, False, -1, 10 ** 30, -(10 ** 30), 1j, 0j, "", "a", "abcdefghi", "A", "a b", "1/2",
         b"", b"a", bytearray(b"a"), memoryview(b"a"),
@@ -34,10 +35,10 @@ def odd_objects():
         {(0, True): 1}, {(False, True): 1}, {(0, 0): None}, {(0, 1, 2): 1}, {None: None}, {(0, 1j): 1}, {"ab": 1},
         {frozenset(): 1}, {((0, 1), 1): 1}, {b"ab": 1},
         set(), {0}, {(0, 1)}, frozenset(), frozenset({0}), range(3), range(0), range(10 ** 30), slice(0, 1),
-        Ellipsis, NotImplemented, object(), object, int, type, Share, len, lambda: 0, (x for x in ()),
+        Ellipsis, NotImplemented, object(), object, int, type, Share, Chain, len, lambda: 0, (x for x in ()),
         iter([]), zip(), enumerate([]), reversed([]), map(len, []), ValueError("x"), {}.keys(), {0: 1}.items(),
         [].append, property(), unittest,
-        Share(1, 2), Share(-3), Share(10 ** 13, 3), BadSteps(1),
+        Share(1, 2), Share(-3), Share(10 ** 13, 3), Chain(((1,),), ("a",)), BadSteps(1),
         (Share(1, 2), None), [Share(1, 2), Share(1, 2)], {0: Share(1)},
         deep_tuple, deep_list, deep_dict,
     ]
@@ -80,6 +81,13 @@ def drawn_spread(draw, many, zeros=0.3):
     if not any(parts):
         parts[draw.randrange(many)] = 1
     return tuple(S(part, sum(parts)) for part in parts)
+
+
+def drawn_chain(draw, many, names="ab", zeros=0.4):
+    """A chain drawn from a source."""
+    from bothwalks.chains import Chain
+    rows = tuple(drawn_spread(draw, many, zeros) for _ in range(many))
+    return Chain(rows, tuple(draw.choice(names) for _ in range(many)))
 
 
 def source(seed):

@@ -4,11 +4,19 @@ import unittest
 
 from bothwalks.amounts import amounts
 from bothwalks.carrying import carry
+from bothwalks.chains import Chain
 from bothwalks.equations import solve
+from bothwalks.lumps import lumps
+from bothwalks.seen import gap_rows, unlike_seen
 from bothwalks.shares import Share
+from bothwalks.ties import close_ties, free_ties, tied_mean
+from bothwalks.walking import closed_parts, ends, period
 
 S = Share
 h = S(1, 2)
+three = Chain(((0, h, h), (0, 1, 0), (0, 0, 1)), ("a", "a", "b"))
+coin = Chain(((h, h), (h, h)), ("a", "b"))
+swap = Chain(((0, 1), (1, 0)), ("a", "a"))
 
 
 class ExamplesTest(unittest.TestCase):
@@ -26,6 +34,24 @@ class ExamplesTest(unittest.TestCase):
 
     def test_e04(self):
         self.assertEqual(carry((h, h), (1, 0), {(0, 0): 0, (0, 1): 1, (1, 0): 1, (1, 1): 0})[0], h)
+
+    def test_e05(self):
+        self.assertEqual(closed_parts(three), [(1,), (2,)])
+        self.assertEqual(ends(three, 0), {(1,): h, (2,): h})
+        self.assertEqual(period(swap, 0), 2)
+
+    def test_e06(self):
+        self.assertEqual(lumps(swap), [(0, 1)])
+        self.assertEqual(lumps(three), [(0,), (1,), (2,)])
+
+    def test_e07(self):
+        self.assertEqual(unlike_seen(three, 0, 1), (("a", "a"), h, S(1)))
+        self.assertEqual(gap_rows(three, 0, 1, 1), [("a", "b")])
+
+    def test_e08(self):
+        self.assertEqual(tied_mean(coin, free_ties(coin), 0, 1), S(2))
+        self.assertEqual(tied_mean(coin, close_ties(coin), 0, 1), S(1))
+        self.assertIs(tied_mean(swap, free_ties(swap), 0, 1), None)
 
 
 if __name__ == "__main__":

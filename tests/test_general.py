@@ -5,15 +5,24 @@ import unittest
 
 from bothwalks.amounts import amounts, cheapest
 from bothwalks.carrying import carry, is_plan, is_prices, plan_cost, worth
+from bothwalks.chains import Chain, beside, onto, product
 from bothwalks.equations import solve
+from bothwalks.lumps import is_lumping, lumped, lumps
+from bothwalks.seen import gap_rows, greatest_gap, likeliest, seen_at, seen_share, unlike_seen
 from bothwalks.shares import Share, pick
-from tests.helpers import Case, S, h
+from bothwalks.ties import close_ties, free_ties, is_ties, tied_after, tied_differ, tied_mean
+from bothwalks.walking import after, apart, closed_parts, ends, is_rest, mean_steps, period, reached, rest
+from tests.helpers import Case, S, drawn_chain, h, source
+from tests.test_chains import COIN, SWAP, THREE
 
 
 def shown(thing):
     """A text of all that a thing holds, shares told from integers and dicts in their order."""
     if isinstance(thing, Share):
         return f"Share {thing.top} {thing.bottom}"
+    if isinstance(thing, Chain):
+        rows = [thing.row(state) for state in range(thing.size)]
+        return f"Chain {shown(rows)} {[thing.label(state) for state in range(thing.size)]}"
     if isinstance(thing, dict):
         return "{" + ", ".join(f"{shown(key)}: {shown(part)}" for key, part in thing.items()) + "}"
     if isinstance(thing, (list, tuple)):
@@ -36,7 +45,7 @@ def spoil(thing):
             spoil(part)
 
 
-def calls():
+def share_calls():
     """Calls of the functions with right arguments."""
     costs = {(1, 1): 0, (0, 1): S(1, 3), (1, 0): 2, (0, 0): S(1, 5)}
     plan = {(1, 0): S(1, 4), (0, 0): S(1, 4), (1, 1): h}
@@ -49,6 +58,29 @@ def calls():
         (carry, (p, q, costs)), (is_plan, (p, q, plan)), (is_prices, (costs, ((0, 0), (0, 0)))),
         (plan_cost, (costs, plan)), (worth, (p, q, ((1, 2), (3, 4)))),
     ]
+
+
+def chain_calls():
+    """Calls of the functions over chains with right arguments."""
+    ties = {(1, 0): {(1, 0): h, (0, 1): h}, (0, 1): {(1, 1): h, (0, 0): h}}
+    chain = drawn_chain(source(71), 4)
+    found = [
+        (beside, (COIN, SWAP)), (product, (COIN, SWAP)), (onto, (THREE, (2, 1))), (after, (COIN, (1, 0), 3)),
+        (apart, ((1, 0), (h, h))), (period, (COIN, 0)), (rest, (COIN, 0)), (is_rest, (COIN, (h, h))),
+        (mean_steps, (COIN, 0, (1,))), (is_lumping, (SWAP, [(1,), (0,)])), (is_ties, (COIN, ties)),
+        (tied_after, (COIN, ties, 1, 0, 4)), (tied_mean, (COIN, ties, 1, 0)), (tied_differ, (COIN, ties, 1, 0)),
+        (tied_after, (chain, close_ties(chain), 2, 0, 4)),
+    ]
+    for each in (THREE, SWAP, COIN, chain):
+        found += [(call, (each,)) for call in (closed_parts, lumps, lumped, free_ties, close_ties)]
+        found += [(call, (each, 0)) for call in (reached, ends)]
+        found += [(call, (each, 0, ("a", None, "b"))) for call in (seen_share, seen_at, likeliest)]
+        found += [(unlike_seen, (each, 0, 1)), (greatest_gap, (each, 0, 1, 2)), (gap_rows, (each, 0, 1, 2))]
+    return found
+
+
+def calls():
+    return share_calls() + chain_calls()
 
 
 class GeneralTest(Case):
@@ -93,6 +125,31 @@ class GeneralTest(Case):
         self.assertEqual(solve(((long,),), (1,)), ("one", (S(1).over(long),)))
         p = (long.over(2), 1 - long.over(2))
         self.assertEqual(carry(p, (0, 1), {(0, 0): 0, (0, 1): long, (1, 0): 0, (1, 1): 0})[0], p[0] * long)
+
+    def test_chains_of_long_shares(self):
+        row = after(drawn_chain(source(72), 3, zeros=0), (1, 0, 0), 60)
+        self.assertGreater(row[0].bottom, 10 ** 40)
+        chain = Chain((row, tuple(reversed(row)), (h, 0, h)), ("a", "a", "b"))
+        ties = close_ties(chain)
+        self.judges(True, is_ties, chain, ties)
+        self.judges(True, is_rest, chain, rest(chain, 0))
+        self.assertEqual(apart(chain.row(0), chain.row(1)), 1 - sum(
+            [share for pair, share in ties[(0, 1)].items() if pair[0] == pair[1]], S(0)))
+        self.assertEqual(sum(list(tied_after(chain, ties, 0, 1, 30).values()), S(0)), 1)
+        self.is_share(tied_mean(chain, ties, 0, 2))
+
+    def test_chains_never_change(self):
+        rows, labels = ((h, h), (0, 1)), ("a", "b")
+        chain = Chain(rows, labels)
+        before = shown(chain)
+        chain.with_row(0, (1, 0))
+        chain.with_label(1, "c")
+        for call, given in ((beside, (chain, chain)), (product, (chain, chain)), (lumped, (chain,))):
+            call(*given)
+        for wrong in ((0, (1,)), (0, None), (5, (1, 0))):
+            with self.assertRaises(ValueError):
+                chain.with_row(*wrong)
+        self.assertEqual(shown(chain), before)
 
 
 if __name__ == "__main__":

@@ -18,9 +18,30 @@ FUNCTIONS = {
         "carry": "p q costs", "is_plan": "p q thing", "is_prices": "costs thing", "plan_cost": "costs plan",
         "worth": "p q prices",
     },
+    "chains": {"beside": "one other", "product": "one other", "onto": "chain states"},
+    "walking": {
+        "after": "chain spread steps", "reached": "chain state", "closed_parts": "chain", "apart": "p q",
+        "period": "chain state", "rest": "chain state", "is_rest": "chain thing", "ends": "chain state",
+        "mean_steps": "chain state goals",
+    },
+    "lumps": {"lumps": "chain", "lumped": "chain", "is_lumping": "chain thing"},
+    "seen": {
+        "seen_share": "chain state seen", "seen_at": "chain state seen", "likeliest": "chain state seen",
+        "unlike_seen": "chain s t", "greatest_gap": "chain s t n", "gap_rows": "chain s t n",
+    },
+    "ties": {
+        "is_ties": "chain thing", "free_ties": "chain", "close_ties": "chain", "tied_after": "chain ties s t n",
+        "tied_mean": "chain ties s t", "tied_differ": "chain ties s t",
+    },
 }
 METHODS = {
     "shares": {"Share": {"__init__": "top bottom", "over": "other", "less": "other"}},
+    "chains": {
+        "Chain": {
+            "__init__": "rows labels", "row": "state", "label": "state", "with_row": "state spread",
+            "with_label": "state name", "__eq__": "other",
+        },
+    },
 }
 
 
