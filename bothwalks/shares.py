@@ -16,7 +16,7 @@ def digits(number):
         left, low = divmod(left, BLOCK)
         blocks.append(str(low).zfill(64))
     sign = "-" if number < 0 else ""
-    return sign + str(left) + "".join(reversed(blocks))
+    return "".join([sign, str(left), *blocks[::-1]])
 
 
 class Share:

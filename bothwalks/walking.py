@@ -49,7 +49,7 @@ def closed_parts(chain):
     for state, states in enumerate(ahead):
         if all([state in ahead[other] for other in states]) and tuple(states) not in parts:
             parts.append(tuple(states))
-    return sorted(parts)
+    return parts
 
 
 def part_of(chain, state):

@@ -1,11 +1,55 @@
 """[2.2] and [2.3]: amounts from 0 on, and cheapest ones."""
 
+import signal
 import unittest
 
 from bothwalks.amounts import amounts, cheapest, is_amounts, is_refusal
 from bothwalks.errors import BadCosts, BadRight, BadRows
 from tests.helpers import Case, S, fraction, fractions, h, odd_objects, source
 from tests.test_equations import sums
+
+IDLE = (
+    ((
+        (5, 2, -6, 1, 4, -4, -3, 2, 5),
+        (-6, -5, 4, 1, -4, 1, -6, 0, -9),
+        (1, 6, 5, 0, 9, -8, 0, 0, 8),
+        (2, 0, 4, -1, 6, 0, 0, -8, -8),
+    ), (2, 9, 8, 6, -9, 4, 2, 2, 9)),
+    ((
+        (6, 4, -2, 7, -8, -7, -6, 0, 3, 0),
+        (2, 0, -6, -9, -8, -2, -8, 0, 1, -8),
+        (0, 7, 0, 0, 0, 0, 7, 8, -4, -9),
+        (5, 0, 4, 3, 4, 8, -8, -4, 4, 0),
+    ), (-8, -1, -1, 4, -3, -4, -3, 5, 0, -4)),
+    ((
+        (9, -7, -3, 1, 8, 5, 8, 9, 0, -1, 7),
+        (-4, 4, 4, -7, -6, 8, -6, -2, 7, 4, 3),
+        (4, 0, 6, 0, 4, 9, -3, 8, -3, 5, -5),
+        (-9, -1, 5, 8, 0, 0, -9, -7, 0, 0, 2),
+    ), (-3, 0, 5, 8, 9, 7, -8, 4, 8, -7, 2)),
+    ((
+        (-8, -6, 0, 8, -2, -2, -9, 5, -3, 0, 4),
+        (-1, 0, 2, 8, 6, -7, 0, -6, 8, 1, -2),
+        (2, -1, 2, 4, 8, 0, -3, 0, -2, -8, 0),
+        (4, -8, 0, 8, 0, -7, 0, 0, -2, 0, 8),
+    ), (1, 7, 2, 0, -2, 0, 9, -1, -4, -2, -1)),
+    ((
+        (1, 0, 0, 0, 9, -1, -4, 1, 0),
+        (0, 1, 0, 0, -8, -6, -1, 6, 4),
+        (0, 0, 1, 0, -8, 0, 7, 6, -5),
+        (0, 0, 0, 1, 5, 5, -4, -4, 7),
+    ), (3, 8, -1, 5, 8, -7, 4, -9, -7)),
+    ((
+        (1, 0, 0, 2, 7, 9, 2, 0, -3, 1),
+        (0, 1, 0, 0, 0, -2, 3, 0, -7, 8),
+        (0, 0, 1, 9, 1, 0, -7, -3, 3, 0),
+    ), (3, 5, 7, 6, 4, 9, 5, -7, 9, 9)),
+    ((
+        (1, 0, 0, 3, 0, -6, 6, 0, -9, 6),
+        (0, 1, 0, -1, 0, 0, 3, -4, -6, 0),
+        (0, 0, 1, 9, 7, 0, 3, 5, -7, 2),
+    ), (9, -4, 5, 0, 3, -9, 1, -2, -5, -3)),
+)
 
 
 def drawn_equations(draw, most=5, bottoms=3):
@@ -177,6 +221,19 @@ class CheapestTest(AmountsCase):
         draw = source(9)
         for _ in range(10):
             self.fits(*drawn_equations(draw, 12, 1))
+
+    def test_idle_steps_do_not_go_round_for_ever(self):
+        # With all right sides 0 a simplex may come back to where it was, for some choices of what goes out.
+        def stop(signal_number, frame):
+            self.fail("it goes on and on")
+        before = signal.signal(signal.SIGALRM, stop)
+        signal.alarm(30)
+        try:
+            for rows, costs in IDLE:
+                self.fits(rows, (0,) * len(rows), costs)
+        finally:
+            signal.alarm(0)
+            signal.signal(signal.SIGALRM, before)
 
     def test_the_greatest_size(self):
         draw = source(10)

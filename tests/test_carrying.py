@@ -159,6 +159,9 @@ class JudgesTest(Case):
             {(1, 0): S(1, 4), (2, 0): S(1, 4), (2, 1): h}, [((0, 1), S(1, 4)), ((0, 2), S(1, 4)), ((1, 2), h)],
         ):
             self.judges(False, is_plan, p, q, thing)
+        # One side comes out right here, the other one does not.
+        self.judges(False, is_plan, (h, h), (0, 1), {(0, 1): 1})
+        self.judges(False, is_plan, (h, h), (0, 1), {(0, 0): h, (1, 1): h})
         self.judges(True, is_plan, (1,), (1,), {(0, 0): 1})
         self.judges(True, is_plan, (1, 0), (0, S(1)), {(0, 1): S(1)})
         self.judges(False, is_plan, (1,), (1,), {(0, 0): True})

@@ -173,6 +173,11 @@ class UnlikeTest(Case):
         self.assertEqual(unlike_seen(chain.with_row(4, (0, 0, 0, 0, 0, S(1, 3), S(2, 3))), 0, 1),
                          (("a", "b", "c"), h, S(1, 3)))
 
+    def test_differences_are_followed_and_not_sums(self):
+        rows = ((1, 0, 0, 0, 0), (0, 0, h, 0, h), (h, h, 0, 0, 0), (1, 0, 0, 0, 0), (h, 0, 0, h, 0))
+        chain = Chain(rows, ("b", "a", "b", "a", "b"))
+        self.assertEqual(unlike_seen(chain, 2, 4), (("b", "a", "b", "a"), S(1, 4), 0))
+
     def test_drawn_chains(self):
         found = []
         for chain in drawn_chains(53, 60, 4) + drawn_chains(54, 40, 4, "aaab"):

@@ -218,6 +218,7 @@ class RestTest(Case):
             self.judges(True, is_rest, chain, thing)
         for chain, thing in (
             (THREE, (1, 0, 0)), (THREE, (h, h, 0)), (SWAP, (1, 0)), (SWAP, (S(1, 3), S(2, 3))), (SWAP, [h, h]),
+            (beside(SWAP, one_state()), (h, 0, h)), (beside(one_state(), SWAP), (h, h, 0)), (THREE, (S(1, 3), S(2, 3), 0)),
             (SWAP, (1, 1)), (SWAP, (0, 0)), (SWAP, (h, h, 0)), (one_state(), (True,)), (THREE, (0, 2, -1)),
         ):
             self.judges(False, is_rest, chain, thing)
