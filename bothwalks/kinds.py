@@ -26,6 +26,12 @@ def check_state(size, state):
         raise NoState(state)
 
 
+def check_two_states(size, s, t):
+    """Raise NoState for the first of both that is no state of a machine of this size."""
+    check_state(size, s)
+    check_state(size, t)
+
+
 def is_name(thing):
     """Whether a thing is a string of 1 to 8 letters a to z."""
     if not isinstance(thing, str) or not 1 <= len(thing) <= 8:

@@ -3,7 +3,7 @@
 from bothwalks.chains import chain_labels, chain_moves
 from bothwalks.equations import solution
 from bothwalks.errors import BadSeen, BadSteps
-from bothwalks.kinds import check_state, is_between, is_name
+from bothwalks.kinds import check_state, check_two_states, is_between, is_name
 from bothwalks.moves import moved
 from bothwalks.shares import Share, is_above_zero, total
 
@@ -103,12 +103,6 @@ def greatest_index(shares):
     return best
 
 
-def check_two(chain, s, t):
-    """Raise NoState for the first of both that is no state."""
-    check_state(chain.size, s)
-    check_state(chain.size, t)
-
-
 def unlike_seen(chain, s, t):
     """The first tuple of names that has another share from s than from t, with both; None if there is none.
 
@@ -116,7 +110,7 @@ def unlike_seen(chain, s, t):
     whose differences are made up by those of tuples ahead of it is followed no
     further: what comes of it, one of those ahead of it shows as well.
     """
-    check_two(chain, s, t)
+    check_two_states(chain.size, s, t)
     moves = chain_moves(chain)
     names = sorted(set(chain_labels(chain)))
     known = []
@@ -152,7 +146,7 @@ def is_made_up(known, row):
 
 def gaps(chain, s, t, n):
     """The tuples of n + 1 names that have a greater share from s than from t, ascending, with the difference."""
-    check_two(chain, s, t)
+    check_two_states(chain.size, s, t)
     if not is_between(0, 3, n):
         raise BadSteps(n)
     moves = chain_moves(chain)

@@ -3,7 +3,7 @@
 from bothwalks.carrying import is_plan
 from bothwalks.chains import chain_moves
 from bothwalks.errors import BadSteps, BadTies
-from bothwalks.kinds import check_state, has_keys, index_pairs, is_between, unlike_pairs
+from bothwalks.kinds import check_two_states, has_keys, index_pairs, is_between, unlike_pairs
 from bothwalks.moves import behind, hit_mean, hit_share
 from bothwalks.shares import Share, share_of, total
 
@@ -60,8 +60,7 @@ def tied_moves(chain, ties):
 
 def check_tied(chain, ties, s, t):
     """Raise NoState for what is no state, then BadTies for what are no ties."""
-    check_state(chain.size, s)
-    check_state(chain.size, t)
+    check_two_states(chain.size, s, t)
     if not is_ties(chain, ties):
         raise BadTies()
 
