@@ -9,6 +9,11 @@ from bothwalks.simplex import Simplex
 def amounts(rows, right):
     """Shares from 0 on that solve the equations, or weights that show that there are none."""
     check_equations(rows, right, 20, 40)
+    return found_amounts(rows, right)
+
+
+def found_amounts(rows, right):
+    """As amounts, for equations of any size that are right ones."""
     simplex = Simplex(rows, right, (0,) * len(rows[0]))
     simplex.lessen(simplex.many)
     if simplex.lack():

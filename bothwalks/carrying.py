@@ -3,7 +3,7 @@
 from math import isqrt
 
 from bothwalks.errors import BadCosts, BadSpread
-from bothwalks.kinds import has_keys, index_pairs, is_index_pair, is_tuple_of
+from bothwalks.kinds import has_keys, index_pairs, is_pair_dict, is_tuple_of
 from bothwalks.shares import (
     Share, is_above_zero, is_from_zero, is_share_row, is_spread, share_of, shares_of, total,
 )
@@ -41,6 +41,17 @@ def carried(p, q, costs):
     return (plan_cost(costs, plan), plan, shares)
 
 
+def carried_inside(p, q, costs):
+    """As carried, but a cost of None bars a pair: the plan does without such pairs if any plan can.
+
+    No amount is less than one over the common bottom; so a bit of what stands for
+    None costs more than all else can.
+    """
+    known = [cost for cost in costs.values() if cost is not None]
+    barred = (total(known) + 1) * common_bottom(p + q)
+    return carried(p, q, {pair: barred if cost is None else cost for pair, cost in costs.items()})
+
+
 def spread_prices(prices, froms, tos, costs):
     """The prices of the indexes that carry, and for all others the highest that the costs allow."""
     indexes = range(len(costs))
@@ -58,9 +69,7 @@ def spread_prices(prices, froms, tos, costs):
 def is_plan(p, q, thing):
     """Whether a thing is a plan that carries p to q."""
     many = len(p)
-    if not isinstance(thing, dict) or not all([is_index_pair(many, pair) for pair in thing]):
-        return False
-    if not all([is_above_zero(amount) for amount in thing.values()]):
+    if not is_pair_dict(many, thing) or not all([is_above_zero(amount) for amount in thing.values()]):
         return False
     given = [total([amount for pair, amount in thing.items() if pair[0] == i]) for i in range(many)]
     taken = [total([amount for pair, amount in thing.items() if pair[1] == j]) for j in range(many)]

@@ -2,7 +2,7 @@
 
 from bothwalks.errors import BadChain, BadStates, TooMany
 from bothwalks.kinds import check_state, is_index_row, is_name, is_tuple_of
-from bothwalks.shares import Share, is_spread, shares_of
+from bothwalks.shares import is_spread, shares_of
 
 MOST_STATES = 8
 
@@ -63,11 +63,6 @@ def chain_moves(chain):
 def row_moves(row):
     """The dict from the indexes at which a row is not 0 to its shares there."""
     return {to: share for to, share in enumerate(row) if share != 0}
-
-
-def share_into(row, states):
-    """The share with which a row goes into some states."""
-    return sum([row[state] for state in states], start=Share(0))
 
 
 def beside(one, other):

@@ -1,6 +1,6 @@
 """What kind of thing an object is: integers, indexes, names and dicts over pairs of indexes."""
 
-from bothwalks.errors import NoState
+from bothwalks.errors import NoState, TooMany
 
 LETTERS = "abcdefghijklmnopqrstuvwxyz"
 
@@ -8,6 +8,11 @@ LETTERS = "abcdefghijklmnopqrstuvwxyz"
 def is_whole(thing):
     """Whether a thing is an integer; a flag is none."""
     return isinstance(thing, int) and not isinstance(thing, bool)
+
+
+def is_count(thing):
+    """Whether a thing is an integer from 0 on."""
+    return is_whole(thing) and thing >= 0
 
 
 def is_between(least, most, thing):
@@ -32,6 +37,12 @@ def check_two_states(size, s, t):
     check_state(size, t)
 
 
+def check_few(size, limit):
+    """Raise TooMany for a machine of more states than the limit."""
+    if size > limit:
+        raise TooMany(limit)
+
+
 def is_name(thing):
     """Whether a thing is a string of 1 to 8 letters a to z."""
     if not isinstance(thing, str) or not 1 <= len(thing) <= 8:
@@ -49,11 +60,23 @@ def is_index_pair(many, thing):
     return is_tuple_of(2, thing) and is_index(many, thing[0]) and is_index(many, thing[1])
 
 
+def is_pair_dict(many, thing):
+    """Whether a thing is a dict from some pairs of indexes below many."""
+    return isinstance(thing, dict) and all([is_index_pair(many, key) for key in thing])
+
+
 def is_index_row(many, thing):
     """Whether a thing is a nonempty tuple of unlike indexes below many."""
     if not isinstance(thing, tuple) or not thing:
         return False
     return all([is_index(many, part) for part in thing]) and len(set(thing)) == len(thing)
+
+
+def is_index_set(many, thing):
+    """Whether a thing is an ascending tuple of unlike indexes below many."""
+    if not isinstance(thing, tuple) or not all([is_index(many, part) for part in thing]):
+        return False
+    return list(thing) == sorted(set(thing))
 
 
 def index_pairs(many):
@@ -76,3 +99,8 @@ def has_keys(keys, thing):
     if not all([is_tuple_of(2, key) and is_whole(key[0]) and is_whole(key[1]) for key in thing]):
         return False
     return all([key in thing for key in keys])
+
+
+def in_order(told):
+    """A dict with its keys ascending."""
+    return {key: told[key] for key in sorted(told)}

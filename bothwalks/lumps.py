@@ -1,7 +1,8 @@
 """Lumps: states that no walk can tell from one another by labels."""
 
-from bothwalks.chains import Chain, share_into
+from bothwalks.chains import Chain
 from bothwalks.partitions import grouped, is_partition
+from bothwalks.shares import share_into
 
 
 def lumps(chain):

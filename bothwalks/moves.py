@@ -65,13 +65,15 @@ def able_places(moves, places, goals):
     return [place for place in places if place in able]
 
 
-def first_value(moves, places, gains):
-    """The value of the first place, where each one's is its gain and what comes next is worth.
+def place_values(moves, places, gains):
+    """The dict from the places to their values: each one's gain and what comes next is worth.
 
     Only what comes next among the places is worth something, and all of them can be left.
     """
+    if not places:
+        return {}
     rows = tuple([place_row(moves[place], place, places) for place in places])
-    return only_values(rows, tuple(gains))[0]
+    return dict(zip(places, only_values(rows, tuple(gains))))
 
 
 def place_row(onward, place, places):
@@ -84,11 +86,24 @@ def hit_share(moves, start, goals):
     at_goals = {place: True for place in goals}
     if start in at_goals:
         return Share(1)
-    places = able_places(moves, places_ahead(moves, start, at_goals), at_goals)
-    if start not in places:
-        return Share(0)
-    gains = [total([share for to, share in moves[place].items() if to in at_goals]) for place in places]
-    return first_value(moves, places, gains)
+    return hit_values(moves, places_ahead(moves, start, at_goals), at_goals).get(start, Share(0))
+
+
+def hit_shares(moves, goals):
+    """The shares with which walks from the places, none a goal, ever come to one.
+
+    A walk that is at no such place and no goal is lost.
+    """
+    at_goals = {place: True for place in goals}
+    found = hit_values(moves, list(moves), at_goals)
+    return {place: found.get(place, Share(0)) for place in moves}
+
+
+def hit_values(moves, places, goals):
+    """The shares with which walks over the places come to a goal, of the places from which they may."""
+    able = able_places(moves, places, goals)
+    gains = [total([share for to, share in moves[place].items() if to in goals]) for place in able]
+    return place_values(moves, able, gains)
 
 
 def hit_mean(moves, start, goals):
@@ -99,4 +114,4 @@ def hit_mean(moves, start, goals):
     places = places_ahead(moves, start, at_goals)
     if len(able_places(moves, places, at_goals)) < len(places):
         return None
-    return first_value(moves, places, [1] * len(places))
+    return place_values(moves, places, [1] * len(places))[start]

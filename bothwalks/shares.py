@@ -119,9 +119,19 @@ def total(row):
     return sum(row, start=Share(0))
 
 
+def share_into(row, indexes):
+    """The share with which a row goes into some indexes."""
+    return total([row[index] for index in indexes])
+
+
 def is_from_zero(thing):
     """Whether a thing is a share from 0 on."""
     return is_share(thing) and not share_of(thing).less(0)
+
+
+def is_numbered(thing):
+    """Whether a thing is a pair of a share from 0 on and anything else."""
+    return is_tuple_of(2, thing) and is_from_zero(thing[0])
 
 
 def is_above_zero(thing):

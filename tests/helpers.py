@@ -1,5 +1,6 @@
-"""What several tests need: odd objects, chains drawn from a seed, and sums in fractions."""
+"""What several tests need: odd objects, chains drawn from a seed, sums in fractions, and all corner plans."""
 
+import itertools
 import random
 import unittest
 from fractions import Fraction
@@ -28,6 +29,8 @@ def odd_objects():
     for _ in range(29):
         deep_tuple, deep_list, deep_dict = (deep_tuple,), [deep_list], {0: deep_dict}
     from bothwalks.chains import Chain
+    from bothwalks.draws import Draw
+    from bothwalks.orders import Order
     return [
         None, True, False, -1, 10 ** 30, -(10 ** 30), 1j, 0j, "", "a", "abcdefghi", "A", "a b", "1/2",
         b"", b"a", bytearray(b"a"), memoryview(b"a"),
@@ -39,6 +42,7 @@ def odd_objects():
         iter([]), zip(), enumerate([]), reversed([]), map(len, []), ValueError("x"), {}.keys(), {0: 1}.items(),
         [].append, property(), unittest,
         Share(1, 2), Share(-3), Share(10 ** 13, 3), Chain(((1,),), ("a",)), BadSteps(1),
+        Order(2, [(0, 1)]), Draw(((1, (0, 0)),)), Order, Draw,
         (Share(1, 2), None), [Share(1, 2), Share(1, 2)], {0: Share(1)},
         deep_tuple, deep_list, deep_dict,
     ]
@@ -93,3 +97,66 @@ def drawn_chain(draw, many, names="ab", zeros=0.4):
 def source(seed):
     """A source that draws the same in each run."""
     return random.Random(seed)
+
+
+def all_pairs(chain):
+    return [(s, t) for s in range(chain.size) for t in range(chain.size)]
+
+
+def unlike_pairs(chain):
+    return [(s, t) for s, t in all_pairs(chain) if s != t]
+
+
+def corner_plans(p, q):
+    """The plans that carry p to q and whose pairs make no ring: some cheapest plan is always among them.
+
+    Each comes of some order of the pairs in which each pair takes all that it can.
+    """
+    found, seen = [], set()
+
+    def go_on(left, lack, plan):
+        place = tuple(sorted(plan.items()))
+        if place in seen:
+            return
+        seen.add(place)
+        ways = [(i, j) for i in range(len(p)) for j in range(len(p)) if left[i] and lack[j]]
+        if not ways:
+            found.append({pair: S(amount.numerator, amount.denominator) for pair, amount in plan.items()})
+        for i, j in ways:
+            amount = min(left[i], lack[j])
+            left[i], lack[j] = left[i] - amount, lack[j] - amount
+            go_on(left, lack, {**plan, (i, j): amount})
+            left[i], lack[j] = left[i] + amount, lack[j] + amount
+
+    go_on(fractions(p), fractions(q), {})
+    return found
+
+
+def corner_ties(chain, most):
+    """All ties of corner plans, in a list; None if there are more than so many."""
+    pairs = unlike_pairs(chain)
+    plans = [corner_plans(chain.row(s), chain.row(t)) for s, t in pairs]
+    many = 1
+    for some in plans:
+        many = many * len(some)
+    if many > most:
+        return None
+    return [dict(zip(pairs, chosen)) for chosen in itertools.product(*plans)]
+
+
+def small_chains(seed, many, names, most=300):
+    """Drawn chains of 2 to 4 states, each with all its ties of corner plans, of which there are not too many."""
+    draw = source(seed)
+    found = []
+    while len(found) < many:
+        chain = drawn_chain(draw, draw.randint(2, 4), draw.choice(names), draw.choice([0.3, 0.5, 0.6]))
+        ties = corner_ties(chain, most)
+        if ties is not None and (len(ties) > 1 or draw.random() < 0.2):
+            found.append((chain, ties))
+    return found
+
+
+def least_of(numbers):
+    """The least of some shares, where None is greater than each."""
+    known = [fraction(number) for number in numbers if number is not None]
+    return min(known) if known else None

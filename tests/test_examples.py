@@ -3,14 +3,21 @@
 import unittest
 
 from bothwalks.amounts import amounts
+from bothwalks.below import kept_below, rising
 from bothwalks.carrying import carry
 from bothwalks.chains import Chain
+from bothwalks.draws import same_draw
 from bothwalks.equations import solve
+from bothwalks.gathering import gather_word, stuck
 from bothwalks.lumps import lumps
+from bothwalks.meeting import never_meet, soonest
+from bothwalks.near import distance
+from bothwalks.orders import line, under, up_sets
 from bothwalks.seen import gap_rows, unlike_seen
 from bothwalks.shares import Share
 from bothwalks.ties import close_ties, free_ties, tied_mean
 from bothwalks.walking import closed_parts, ends, period
+from bothwalks.within import met_within
 
 S = Share
 h = S(1, 2)
@@ -52,6 +59,28 @@ class ExamplesTest(unittest.TestCase):
         self.assertEqual(tied_mean(coin, free_ties(coin), 0, 1), S(2))
         self.assertEqual(tied_mean(coin, close_ties(coin), 0, 1), S(1))
         self.assertIs(tied_mean(swap, free_ties(swap), 0, 1), None)
+
+    def test_e09(self):
+        self.assertEqual(distance(three, 0, 1), h)
+        self.assertEqual(distance(swap, 0, 1), S(0))
+
+    def test_e10(self):
+        self.assertEqual(soonest(coin)[(0, 1)], S(1))
+        self.assertEqual(never_meet(swap), [(0, 1), (1, 0)])
+        self.assertEqual(met_within(coin, 0, 1, 1), S(1))
+
+    def test_e11(self):
+        self.assertEqual(under(line(3), (1, 0, 0), (0, 0, 1)), ("plan", {(0, 2): S(1)}))
+        self.assertEqual(up_sets(line(2)), [(), (0, 1), (1,)])
+
+    def test_e12(self):
+        self.assertEqual(kept_below(line(2), coin, coin), [(0, 0), (0, 1), (1, 1)])
+        self.assertEqual(rising(swap, line(2)), (0, 1, (1,)))
+
+    def test_e13(self):
+        self.assertEqual(same_draw(coin).parts, ((h, (0, 0)), (h, (1, 1))))
+        self.assertEqual(gather_word(same_draw(coin)), (0,))
+        self.assertEqual(stuck(same_draw(swap)), [(0, 1)])
 
 
 if __name__ == "__main__":

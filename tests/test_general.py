@@ -4,14 +4,24 @@ import copy
 import unittest
 
 from bothwalks.amounts import amounts, cheapest
+from bothwalks.below import below_ties, fall_paper, is_below_ties, is_fall_paper, kept_below, rising
 from bothwalks.carrying import carry, is_plan, is_prices, plan_cost, worth
 from bothwalks.chains import Chain, beside, onto, product
+from bothwalks.draws import Draw, free_draw, is_draw_of, same_draw
 from bothwalks.equations import solve
+from bothwalks.gathering import gather_mean, gather_shares, gather_word, is_stuck, stuck
 from bothwalks.lumps import is_lumping, lumped, lumps
+from bothwalks.meeting import never_meet, soonest, soonest_ties
+from bothwalks.near import best_ties, distance, distances
+from bothwalks.orders import Order, line, under, up_sets
+from bothwalks.papers import far_paper, is_far_paper, is_near_paper, near_paper
+from bothwalks.risingdraws import is_rising_weights, rising_draw
 from bothwalks.seen import gap_rows, greatest_gap, likeliest, seen_at, seen_share, unlike_seen
 from bothwalks.shares import Share, pick
 from bothwalks.ties import close_ties, free_ties, is_ties, tied_after, tied_differ, tied_mean
+from bothwalks.waiting import is_meeting_paper, is_waiting_paper, meeting_paper, waiting_paper
 from bothwalks.walking import after, apart, closed_parts, ends, is_rest, mean_steps, period, reached, rest
+from bothwalks.within import met_within
 from tests.helpers import Case, S, drawn_chain, h, source
 from tests.test_chains import COIN, SWAP, THREE
 
@@ -23,6 +33,10 @@ def shown(thing):
     if isinstance(thing, Chain):
         rows = [thing.row(state) for state in range(thing.size)]
         return f"Chain {shown(rows)} {[thing.label(state) for state in range(thing.size)]}"
+    if isinstance(thing, Order):
+        return f"Order {thing.size} {thing.pairs()}"
+    if isinstance(thing, Draw):
+        return f"Draw {thing.size} {shown(thing.parts)}"
     if isinstance(thing, dict):
         return "{" + ", ".join(f"{shown(key)}: {shown(part)}" for key, part in thing.items()) + "}"
     if isinstance(thing, (list, tuple)):
@@ -79,8 +93,41 @@ def chain_calls():
     return found
 
 
+def both_calls():
+    """Calls of the functions for near and far and for meeting with right arguments."""
+    found = [(meeting_paper, (COIN, 0, 1)), (waiting_paper, (COIN,)), (far_paper, (COIN,))]
+    for each in (THREE, SWAP, COIN, drawn_chain(source(73), 4), drawn_chain(source(74), 5, "aab")):
+        found += [(call, (each,)) for call in (distances, best_ties, far_paper, soonest, soonest_ties, never_meet)]
+        found += [(distance, (each, 0, 1)), (near_paper, (each, 0, 1)), (met_within, (each, 0, 1, 3))]
+        found += [(is_near_paper, (each, near_paper(each, 1, 0))), (is_far_paper, (each, far_paper(each)))]
+    turned = {pair: told for pair, told in reversed(list(waiting_paper(COIN).items()))}
+    return found + [(is_meeting_paper, (COIN, meeting_paper(COIN, 1, 0))), (is_waiting_paper, (COIN, turned))]
+
+
+def order_calls():
+    """Calls of the functions for orders and draws with right arguments."""
+    chain = drawn_chain(source(75), 4)
+    free, same = free_draw(THREE), same_draw(chain)
+    found = [
+        (Order, (3, [(0, 1), (2, 2)])), (line, (4,)), (rising, (SWAP, line(2))), (rising_draw, (SWAP, line(2))),
+        (is_rising_weights, (SWAP, line(2), rising_draw(SWAP, line(2))[1])), (rising_draw, (COIN, line(2))),
+        (is_draw_of, (COIN, same_draw(COIN))), (is_stuck, (same_draw(SWAP), ((1, 0),))), (free_draw, (COIN,)),
+        (Draw, (((h, (1, 0)), (h, (0, 0))),)), (gather_shares, (free, 4)), (gather_mean, (same_draw(COIN),)),
+    ]
+    for order in (line(4), Order(4, [(2, 0), (2, 1)])):
+        found += [(up_sets, (order,)), (under, (order, chain.row(0), chain.row(1))), (Order.pairs, (order,))]
+        found += [(under, (order, (1, 0, 0, 0), (0, 0, 0, 1))), (Order.turned, (order,)), (rising, (chain, order))]
+        found += [(call, (order, chain, chain)) for call in (kept_below, below_ties, fall_paper)]
+        found += [(is_below_ties, (order, chain, chain, below_ties(order, chain, chain)))]
+        found += [(is_fall_paper, (order, chain, chain, fall_paper(order, chain, chain)))]
+        found += [(rising_draw, (chain, order))]
+    for draw in (free, same):
+        found += [(call, (draw,)) for call in (Draw.rows, Draw.ties, gather_word, stuck, gather_mean)]
+    return found + [(same_draw, (chain,)), (gather_shares, (same, 8))]
+
+
 def calls():
-    return share_calls() + chain_calls()
+    return share_calls() + chain_calls() + both_calls() + order_calls()
 
 
 class GeneralTest(Case):
@@ -105,6 +152,16 @@ class GeneralTest(Case):
             spoil(answer)
             self.assertEqual(shown(given), before, call.__name__)
             self.assertEqual(shown(call(*given)), right, call.__name__)
+
+    def test_orders_and_draws_never_change(self):
+        order, draw = Order(3, [(0, 1)]), same_draw(THREE)
+        before = shown([order, draw])
+        for spoilt in (order.pairs(), up_sets(order), draw.ties(), under(order, (1, 0, 0), (0, 1, 0))):
+            spoil(spoilt)
+        order.turned()
+        with self.assertRaises(ValueError):
+            order.below(0, 3)
+        self.assertEqual(shown([order, draw]), before)
 
     def test_keys_that_are_returned_ascend(self):
         def look(thing):

@@ -33,6 +33,27 @@ FUNCTIONS = {
         "is_ties": "chain thing", "free_ties": "chain", "close_ties": "chain", "tied_after": "chain ties s t n",
         "tied_mean": "chain ties s t", "tied_differ": "chain ties s t",
     },
+    "near": {"distances": "chain", "best_ties": "chain", "distance": "chain s t"},
+    "papers": {
+        "near_paper": "chain s t", "far_paper": "chain", "is_near_paper": "chain thing", "is_far_paper": "chain thing",
+    },
+    "meeting": {"soonest": "chain", "soonest_ties": "chain", "never_meet": "chain"},
+    "waiting": {
+        "meeting_paper": "chain s t", "waiting_paper": "chain", "is_meeting_paper": "chain thing",
+        "is_waiting_paper": "chain thing",
+    },
+    "within": {"met_within": "chain s t n"},
+    "orders": {"up_sets": "order", "line": "size", "under": "order p q"},
+    "below": {
+        "kept_below": "order one other", "below_ties": "order one other", "fall_paper": "order one other",
+        "is_below_ties": "order one other thing", "is_fall_paper": "order one other thing", "rising": "chain order",
+    },
+    "draws": {"is_draw_of": "chain thing", "same_draw": "chain", "free_draw": "chain"},
+    "risingdraws": {"rising_draw": "chain order", "is_rising_weights": "chain order thing"},
+    "gathering": {
+        "gather_word": "draw", "stuck": "draw", "is_stuck": "draw thing", "gather_mean": "draw",
+        "gather_shares": "draw n",
+    },
 }
 METHODS = {
     "shares": {"Share": {"__init__": "top bottom", "over": "other", "less": "other"}},
@@ -42,6 +63,10 @@ METHODS = {
             "with_label": "state name", "__eq__": "other",
         },
     },
+    "orders": {
+        "Order": {"__init__": "size pairs", "below": "s t", "pairs": "", "turned": "", "__eq__": "other"},
+    },
+    "draws": {"Draw": {"__init__": "parts", "rows": "", "ties": "", "__eq__": "other"}},
 }
 
 
