@@ -5,7 +5,7 @@ from math import isqrt
 from bothwalks.errors import BadCosts, BadSpread
 from bothwalks.kinds import has_keys, index_pairs, is_pair_dict, is_tuple_of
 from bothwalks.shares import (
-    Share, is_above_zero, is_from_zero, is_share_row, is_spread, share_of, shares_of, total,
+    Share, is_above_zero, is_from_zero, is_share_row, is_spread, pick, share_of, shares_of, total,
 )
 from bothwalks.tables import common_bottom, scaled
 from bothwalks.transport import cheapest_flow
@@ -83,6 +83,17 @@ def is_prices(costs, thing):
         return False
     first, second = thing
     return not any([share_of(cost).less(first[i] + second[j]) for (i, j), cost in costs.items()])
+
+
+def picked(plan, share):
+    """The pair of a plan at which a share is: its pairs, ascending, follow one another as in pick."""
+    pairs = sorted(plan)
+    return pairs[pick(tuple([plan[pair] for pair in pairs]), share)]
+
+
+def copied_plan(plan):
+    """A copy of a plan with Shares, its pairs ascending."""
+    return {pair: share_of(plan[pair]) for pair in sorted(plan)}
 
 
 def plan_cost(costs, plan):

@@ -1,7 +1,7 @@
 """Chains, and chains put together of chains."""
 
 from bothwalks.errors import BadChain, BadStates, TooMany
-from bothwalks.kinds import check_state, is_index_row, is_name, is_tuple_of
+from bothwalks.kinds import check_state, is_index_row, is_name_row, is_tuple_between
 from bothwalks.shares import is_spread, shares_of
 
 MOST_STATES = 8
@@ -11,11 +11,9 @@ class Chain:
     """A machine that goes from state to state by the shares of its rows."""
 
     def __init__(self, rows, labels):
-        if not isinstance(rows, tuple) or not 1 <= len(rows) <= MOST_STATES:
+        if not is_tuple_between(1, MOST_STATES, rows) or not all([is_spread(len(rows), row) for row in rows]):
             raise BadChain("rows")
-        if not all([is_spread(len(rows), row) for row in rows]):
-            raise BadChain("rows")
-        if not is_tuple_of(len(rows), labels) or not all([is_name(label) for label in labels]):
+        if not is_name_row(len(rows), labels):
             raise BadChain("labels")
         self.size = len(rows)
         self._rows = tuple([shares_of(row) for row in rows])

@@ -1,6 +1,6 @@
 """What kind of thing an object is: integers, indexes, names and dicts over pairs of indexes."""
 
-from bothwalks.errors import NoState, TooMany
+from bothwalks.errors import BadWay, NoState, TooMany
 
 LETTERS = "abcdefghijklmnopqrstuvwxyz"
 
@@ -55,6 +55,16 @@ def is_tuple_of(many, thing):
     return isinstance(thing, tuple) and len(thing) == many
 
 
+def is_tuple_between(least, most, thing):
+    """Whether a thing is a tuple of at least so many items and at most so many."""
+    return isinstance(thing, tuple) and least <= len(thing) <= most
+
+
+def is_name_row(many, thing):
+    """Whether a thing is a tuple of so many names."""
+    return is_tuple_of(many, thing) and all([is_name(part) for part in thing])
+
+
 def is_index_pair(many, thing):
     """Whether a thing is a pair of indexes below many."""
     return is_tuple_of(2, thing) and is_index(many, thing[0]) and is_index(many, thing[1])
@@ -89,18 +99,43 @@ def unlike_pairs(many):
     return [(one, other) for one, other in index_pairs(many) if one != other]
 
 
+def is_whole_row(thing):
+    """Whether a thing is a tuple of integers."""
+    return isinstance(thing, tuple) and all([is_whole(part) for part in thing])
+
+
 def has_keys(keys, thing):
-    """Whether a thing is a dict with just these pairs of integers as keys.
+    """Whether a thing is a dict with just these tuples of integers as keys.
 
     A flag equals an integer as a key; so each key is looked at itself.
     """
     if not isinstance(thing, dict) or len(thing) != len(keys):
         return False
-    if not all([is_tuple_of(2, key) and is_whole(key[0]) and is_whole(key[1]) for key in thing]):
-        return False
-    return all([key in thing for key in keys])
+    return all([is_whole_row(key) for key in thing]) and all([key in thing for key in keys])
 
 
 def in_order(told):
     """A dict with its keys ascending."""
     return {key: told[key] for key in sorted(told)}
+
+
+def wrong_moves(moves, most, are_options):
+    """None for a tuple of the options of 1 to so many states; otherwise the first state that is wrong, or -1.
+
+    are_options judges the options of one state, for so many states.
+    """
+    if not is_tuple_between(1, most, moves):
+        return -1
+    for state, options in enumerate(moves):
+        if not are_options(len(moves), options):
+            return state
+    return None
+
+
+def check_way(size, way, fits):
+    """Raise BadWay for what is no tuple of a choice for each state; fits judges that of one state."""
+    if not is_tuple_of(size, way):
+        raise BadWay(-1)
+    for state, item in enumerate(way):
+        if not fits(state, item):
+            raise BadWay(state)

@@ -1,6 +1,7 @@
 """Partitions of the states of a machine."""
 
 from bothwalks.kinds import is_index
+from bothwalks.shares import share_into
 
 
 def is_partition(many, thing):
@@ -26,3 +27,23 @@ def grouped(parts, alike):
                 cut.append([state])
         groups.extend(cut)
     return sorted([tuple(group) for group in groups])
+
+
+def by_labels(labels):
+    """The ascending partition of the states that have these labels by them."""
+    return grouped([tuple(range(len(labels)))], lambda one, other: labels[one] == labels[other])
+
+
+def rounds(parts, cutting):
+    """The partitions, from the first one on, each of which is cut into the next, till one stays as it is."""
+    found = [parts]
+    cut = cutting(parts)
+    while len(cut) > len(found[-1]):
+        found.append(cut)
+        cut = cutting(cut)
+    return found
+
+
+def part_shares(row, parts):
+    """The shares with which a row goes into each of the parts."""
+    return tuple([share_into(row, part) for part in parts])

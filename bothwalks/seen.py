@@ -5,7 +5,7 @@ from bothwalks.equations import solution
 from bothwalks.errors import BadSeen, BadSteps
 from bothwalks.kinds import check_state, check_two_states, is_between, is_name
 from bothwalks.moves import moved
-from bothwalks.shares import Share, is_above_zero, total
+from bothwalks.shares import Share, greatest_index, is_above_zero, total
 
 
 def check_seen(seen):
@@ -92,15 +92,6 @@ def best_step(chain, state, onward):
     """The greatest share of a step from the state with the best that comes behind it."""
     shares = [share * later for share, later in zip(chain.row(state), onward)]
     return shares[greatest_index(shares)]
-
-
-def greatest_index(shares):
-    """The first index at which a list of shares is greatest."""
-    best = 0
-    for at, share in enumerate(shares):
-        if shares[best].less(share):
-            best = at
-    return best
 
 
 def unlike_seen(chain, s, t):

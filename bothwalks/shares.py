@@ -124,6 +124,27 @@ def share_into(row, indexes):
     return total([row[index] for index in indexes])
 
 
+def greatest_index(shares):
+    """The first index at which a list of shares is greatest."""
+    best = 0
+    for at, share in enumerate(shares):
+        if shares[best].less(share):
+            best = at
+    return best
+
+
+def least_index(shares):
+    """The first index at which a list of shares is least."""
+    return greatest_index([-share for share in shares])
+
+
+def without_sign(share):
+    """The share or its opposite, whichever is not below 0."""
+    if share.less(0):
+        return -share
+    return share
+
+
 def is_from_zero(thing):
     """Whether a thing is a share from 0 on."""
     return is_share(thing) and not share_of(thing).less(0)

@@ -7,7 +7,7 @@ from bothwalks.equations import only_values
 from bothwalks.errors import BadSpread, BadStates, BadSteps, NotClosed
 from bothwalks.kinds import check_state, is_between, is_index_row
 from bothwalks.moves import behind, hit_mean, hit_share, moved, places_ahead
-from bothwalks.shares import Share, is_any_spread, is_spread, share_of, shares_of, total
+from bothwalks.shares import Share, is_any_spread, is_spread, share_of, shares_of, total, without_sign
 
 
 def after(chain, spread, steps):
@@ -33,13 +33,6 @@ def apart(p, q):
     if not is_spread(len(p), q):
         raise BadSpread("q")
     return total([without_sign(share_of(one) - other) for one, other in zip(p, q)]) * Share(1, 2)
-
-
-def without_sign(share):
-    """The share or its opposite, whichever is not below 0."""
-    if share.less(0):
-        return -share
-    return share
 
 
 def closed_parts(chain):

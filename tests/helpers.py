@@ -28,9 +28,17 @@ def odd_objects():
     deep_tuple, deep_list, deep_dict = (), [], {}
     for _ in range(29):
         deep_tuple, deep_list, deep_dict = (deep_tuple,), [deep_list], {0: deep_dict}
+    from bothwalks.both import Both
     from bothwalks.chains import Chain
+    from bothwalks.choices import Choices
     from bothwalks.draws import Draw
+    from bothwalks.duelling import Duel
+    from bothwalks.keepers import Keeper
+    from bothwalks.menus import Menu
     from bothwalks.orders import Order
+    lone = Chain(((1,),), ("a",))
+    menu = Menu((((1,),),), ("a",))
+    calls = {(0, 0, 0, 0): (0, {(0, 0): 1}), (0, 0, 1, 0): (0, {(0, 0): 1})}
     return [
         None, True, False, -1, 10 ** 30, -(10 ** 30), 1j, 0j, "", "a", "abcdefghi", "A", "a b", "1/2",
         b"", b"a", bytearray(b"a"), memoryview(b"a"),
@@ -42,7 +50,8 @@ def odd_objects():
         iter([]), zip(), enumerate([]), reversed([]), map(len, []), ValueError("x"), {}.keys(), {0: 1}.items(),
         [].append, property(), unittest,
         Share(1, 2), Share(-3), Share(10 ** 13, 3), Chain(((1,),), ("a",)), BadSteps(1),
-        Order(2, [(0, 1)]), Draw(((1, (0, 0)),)), Order, Draw,
+        Order(2, [(0, 1)]), Draw(((1, (0, 0)),)), Order, Draw, menu, Choices(((("a", 1, (1,)),),), Share(1, 2)),
+        Keeper(lone), Both(lone, {}, 0, 0), Duel(menu, calls, 0, 0), Menu, Keeper,
         (Share(1, 2), None), [Share(1, 2), Share(1, 2)], {0: Share(1)},
         deep_tuple, deep_list, deep_dict,
     ]
@@ -92,6 +101,26 @@ def drawn_chain(draw, many, names="ab", zeros=0.4):
     from bothwalks.chains import Chain
     rows = tuple(drawn_spread(draw, many, zeros) for _ in range(many))
     return Chain(rows, tuple(draw.choice(names) for _ in range(many)))
+
+
+def drawn_choices(draw, many, most=3, zeros=0.4):
+    """A machine with choices drawn from a source, with 1 to so many options in each state."""
+    from bothwalks.choices import Choices
+    moves = []
+    for _ in range(many):
+        names = draw.sample(["a", "b", "c", "go", "no", "zz"], draw.randint(1, most))
+        moves.append(tuple((name, S(draw.randint(-9, 9), draw.randint(1, 3)), drawn_spread(draw, many, zeros))
+                           for name in names))
+    return Choices(tuple(moves), S(draw.randint(1, 4), 5))
+
+
+def drawn_menu(draw, many, names="ab", zeros=0.4, most=3):
+    """A menu drawn from a source, with 1 to so many options in each state."""
+    from bothwalks.menus import Menu
+    moves = tuple(
+        tuple(drawn_spread(draw, many, zeros) for _ in range(draw.randint(1, most))) for _ in range(many)
+    )
+    return Menu(moves, tuple(draw.choice(names) for _ in range(many)))
 
 
 def source(seed):
@@ -160,3 +189,56 @@ def least_of(numbers):
     """The least of some shares, where None is greater than each."""
     known = [fraction(number) for number in numbers if number is not None]
     return min(known) if known else None
+
+
+def like_pairs(menu):
+    """The pairs of states with the same label."""
+    return [(s, t) for s, t in all_pairs(menu) if menu.label(s) == menu.label(t)]
+
+
+def challenges_of(menu, s, t):
+    """All challenges of a pair."""
+    return [(0, option) for option in range(menu.options(s))] + [(1, option) for option in range(menu.options(t))]
+
+
+def spreads_met(menu, s, t, challenge, answer):
+    """The spreads of the first and the second walker that come of a challenge and the option that answers it."""
+    side, option = challenge
+    if side == 0:
+        return menu.spread(s, option), menu.spread(t, answer)
+    return menu.spread(s, answer), menu.spread(t, option)
+
+
+def corner_answers(menu, s, t, challenge):
+    """All answers of corner plans to a challenge."""
+    other = t if challenge[0] == 0 else s
+    return [
+        (answer, plan) for answer in range(menu.options(other))
+        for plan in corner_plans(*spreads_met(menu, s, t, challenge, answer))
+    ]
+
+
+def some_challenges(draw, menu):
+    """Challenges of all pairs with the same label, drawn from a source."""
+    return {(s, t): draw.choice(challenges_of(menu, s, t)) for s, t in like_pairs(menu)}
+
+
+def some_plan(draw, p, q):
+    """A corner plan that carries p to q: the pairs, in an order drawn from a source, each take all that they can."""
+    left, lack, plan = list(p), list(q), {}
+    pairs = [(i, j) for i in range(len(p)) for j in range(len(q))]
+    for i, j in draw.sample(pairs, len(pairs)):
+        amount = left[i] if left[i].less(lack[j]) else lack[j]
+        if amount != 0:
+            left[i], lack[j], plan[(i, j)] = left[i] - amount, lack[j] - amount, amount
+    return plan
+
+
+def some_answers(draw, menu):
+    """Answers of corner plans to all challenges, drawn from a source."""
+    found = {}
+    for s, t in like_pairs(menu):
+        for challenge in challenges_of(menu, s, t):
+            option = draw.randrange(menu.options(t if challenge[0] == 0 else s))
+            found[(s, t) + challenge] = (option, some_plan(draw, *spreads_met(menu, s, t, challenge, option)))
+    return found

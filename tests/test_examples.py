@@ -4,17 +4,24 @@ import unittest
 
 from bothwalks.amounts import amounts
 from bothwalks.below import kept_below, rising
+from bothwalks.both import Both
 from bothwalks.carrying import carry
 from bothwalks.chains import Chain
+from bothwalks.choices import Choices, best_worths
 from bothwalks.draws import same_draw
+from bothwalks.duels import duel_distance
 from bothwalks.equations import solve
+from bothwalks.errors import BadText
 from bothwalks.gathering import gather_word, stuck
 from bothwalks.lumps import lumps
 from bothwalks.meeting import never_meet, soonest
+from bothwalks.menulumps import menu_lumps
+from bothwalks.menus import Menu, single
 from bothwalks.near import distance
 from bothwalks.orders import line, under, up_sets
 from bothwalks.seen import gap_rows, unlike_seen
 from bothwalks.shares import Share
+from bothwalks.texts import read, written
 from bothwalks.ties import close_ties, free_ties, tied_mean
 from bothwalks.walking import closed_parts, ends, period
 from bothwalks.within import met_within
@@ -81,6 +88,25 @@ class ExamplesTest(unittest.TestCase):
         self.assertEqual(same_draw(coin).parts, ((h, (0, 0)), (h, (1, 1))))
         self.assertEqual(gather_word(same_draw(coin)), (0,))
         self.assertEqual(stuck(same_draw(swap)), [(0, 1)])
+
+    def test_e14(self):
+        self.assertEqual(best_worths(Choices(((("go", 1, (1,)), ("no", 0, (1,))),), h)), (S(2),))
+
+    def test_e15(self):
+        self.assertEqual(Both(coin, close_ties(coin), 0, 1).step(S(1, 4)), (0, 0))
+
+    def test_e16(self):
+        self.assertEqual(written(coin), "a: 1/2 1/2\nb: 1/2 1/2\n")
+        with self.assertRaises(BadText) as caught:
+            read("a: 1\nb: 1\n")
+        self.assertEqual(caught.exception.line, 1)
+
+    def test_e18(self):
+        menu = Menu((((0, 1, 0), (0, h, h)), ((0, 1, 0),), ((0, 0, 1),)), ("a", "a", "b"))
+        self.assertEqual(duel_distance(menu, 0, 1), h)
+
+    def test_e19(self):
+        self.assertEqual(menu_lumps(single(swap)), [(0, 1)])
 
 
 if __name__ == "__main__":

@@ -5,24 +5,34 @@ import unittest
 
 from bothwalks.amounts import amounts, cheapest
 from bothwalks.below import below_ties, fall_paper, is_below_ties, is_fall_paper, kept_below, rising
+from bothwalks.both import Both, tried, walked
+from bothwalks.bounds import worth_bounds
 from bothwalks.carrying import carry, is_plan, is_prices, plan_cost, worth
 from bothwalks.chains import Chain, beside, onto, product
+from bothwalks.choices import Choices, best_way, best_worths, is_best_worths, way_chain, worths
 from bothwalks.draws import Draw, free_draw, is_draw_of, same_draw
+from bothwalks.duelling import Duel, duel_share, won_within
+from bothwalks.duelpapers import answer_paper, challenge_paper, is_answer_paper, is_challenge_paper
+from bothwalks.duels import best_answers, best_challenges, duel_distance, duel_distances
 from bothwalks.equations import solve
 from bothwalks.gathering import gather_mean, gather_shares, gather_word, is_stuck, stuck
+from bothwalks.keepers import Keeper
 from bothwalks.lumps import is_lumping, lumped, lumps
 from bothwalks.meeting import never_meet, soonest, soonest_ties
+from bothwalks.menulumps import is_menu_lumping, menu_lumps
+from bothwalks.menus import Menu, single
 from bothwalks.near import best_ties, distance, distances
 from bothwalks.orders import Order, line, under, up_sets
 from bothwalks.papers import far_paper, is_far_paper, is_near_paper, near_paper
 from bothwalks.risingdraws import is_rising_weights, rising_draw
 from bothwalks.seen import gap_rows, greatest_gap, likeliest, seen_at, seen_share, unlike_seen
 from bothwalks.shares import Share, pick
+from bothwalks.texts import read, read_ties, written, written_ties
 from bothwalks.ties import close_ties, free_ties, is_ties, tied_after, tied_differ, tied_mean
 from bothwalks.waiting import is_meeting_paper, is_waiting_paper, meeting_paper, waiting_paper
 from bothwalks.walking import after, apart, closed_parts, ends, is_rest, mean_steps, period, reached, rest
 from bothwalks.within import met_within
-from tests.helpers import Case, S, drawn_chain, h, source
+from tests.helpers import Case, S, drawn_chain, drawn_choices, drawn_menu, h, source
 from tests.test_chains import COIN, SWAP, THREE
 
 
@@ -37,6 +47,19 @@ def shown(thing):
         return f"Order {thing.size} {thing.pairs()}"
     if isinstance(thing, Draw):
         return f"Draw {thing.size} {shown(thing.parts)}"
+    if isinstance(thing, Menu):
+        spreads = [[thing.spread(state, at) for at in range(thing.options(state))] for state in range(thing.size)]
+        return f"Menu {shown(spreads)} {[thing.label(state) for state in range(thing.size)]}"
+    if isinstance(thing, Choices):
+        told = [[(name, thing.pay(state, name), thing.row(state, name)) for name in thing.names(state)]
+                for state in range(thing.size)]
+        return f"Choices {shown(told)} {shown(thing.factor)}"
+    if isinstance(thing, Keeper):
+        return f"Keeper {shown(thing.chain)} {shown(thing.papers())}"
+    if isinstance(thing, Both):
+        return f"Both {thing.places} {thing.steps} {thing.met} {thing.trial([h] * 6)}"
+    if isinstance(thing, Duel):
+        return f"Duel {thing.places} {thing.steps} {thing.ended}"
     if isinstance(thing, dict):
         return "{" + ", ".join(f"{shown(key)}: {shown(part)}" for key, part in thing.items()) + "}"
     if isinstance(thing, (list, tuple)):
@@ -126,8 +149,53 @@ def order_calls():
     return found + [(same_draw, (chain,)), (gather_shares, (same, 8))]
 
 
+def choice_calls():
+    """Calls of the functions for choices, for texts, and for walking by shares with right arguments."""
+    choices = drawn_choices(source(76), 4)
+    way = best_way(choices)
+    ties = close_ties(THREE)
+    turned = {pair: dict(reversed(list(ties[pair].items()))) for pair in reversed(list(ties))}
+    return [
+        (worths, (choices, way)), (best_worths, (choices,)), (best_way, (choices,)), (worth_bounds, (choices,)),
+        (is_best_worths, (choices, best_worths(choices))), (way_chain, (choices, way, ("a", "b", "c", "a"))),
+        (Choices.names, (choices, 1)), (Choices.row, (choices, 1, way[1])), (written, (THREE,)),
+        (written_ties, (THREE, turned)), (read, (written(THREE),)), (read_ties, (THREE, written_ties(THREE, ties))),
+        (Choices, (((("b", 1, (1,)), ("a", 0, (1,))),), h)), (Both, (THREE, turned, 0, 1)),
+        (Both.trial, (Both(THREE, ties, 0, 1), [h, 0])), (tried, (Both(THREE, turned, 0, 1), [h, S(1, 4)])),
+        (lambda *given: list(walked(*given)), (THREE, 0, [h, 0])), (Keeper, (THREE,)),
+        (Keeper.papers, (kept_papers(),)),
+    ]
+
+
+def kept_papers():
+    """A keeper with papers."""
+    keeper = Keeper(THREE)
+    paper = near_paper(THREE, 0, 1)
+    keeper.keep({pair: paper[pair] for pair in reversed(list(paper))})
+    keeper.keep({})
+    return keeper
+
+
+def duel_calls():
+    """Calls of the functions over menus with right arguments."""
+    found = [(single, (THREE,)), (Menu, ((((1, 0), (h, h)), ((0, 1),)), ("a", "b")))]
+    for menu in (drawn_menu(source(77), 4, "aab"), drawn_menu(source(78), 3, "aab"), single(THREE)):
+        challenges, answers = best_challenges(menu), best_answers(menu)
+        turned = {call: answers[call] for call in reversed(list(answers))}
+        found += [(call, (menu,)) for call in (
+            menu_lumps, duel_distances, best_challenges, best_answers, challenge_paper,
+        )]
+        found += [
+            (is_menu_lumping, (menu, menu_lumps(menu))), (duel_distance, (menu, 0, 1)), (answer_paper, (menu, 0, 1)),
+            (is_answer_paper, (menu, answer_paper(menu, 1, 0))), (is_challenge_paper, (menu, challenge_paper(menu))),
+            (duel_share, (menu, challenges, turned, 0, 1)), (won_within, (menu, challenges, turned, 0, 1, 5)),
+            (Duel, (menu, turned, 0, 0)), (Menu.followed, (menu, (0,) * menu.size)),
+        ]
+    return found
+
+
 def calls():
-    return share_calls() + chain_calls() + both_calls() + order_calls()
+    return share_calls() + chain_calls() + both_calls() + order_calls() + choice_calls() + duel_calls()
 
 
 class GeneralTest(Case):
@@ -194,6 +262,22 @@ class GeneralTest(Case):
             [share for pair, share in ties[(0, 1)].items() if pair[0] == pair[1]], S(0)))
         self.assertEqual(sum(list(tied_after(chain, ties, 0, 1, 30).values()), S(0)), 1)
         self.is_share(tied_mean(chain, ties, 0, 2))
+
+    def test_machines_with_choices_and_menus_never_change(self):
+        choices, menu = drawn_choices(source(79), 3), drawn_menu(source(80), 3)
+        before = shown([choices, menu])
+        for call, given in choice_calls() + duel_calls():
+            call(*given)
+        for call, given in (
+            (worths, (choices, (1, 2, 3))), (menu.spread, (0, 9)), (menu.followed, ((0, 9, 0),)),
+            (choices.pay, (0, "none")), (duel_distance, (menu, 0, 3)), (answer_paper, (menu, 3, 0)),
+        ):
+            with self.assertRaises(ValueError):
+                call(*given)
+        for machine in (choices, menu):
+            for call in (best_worths, worth_bounds) if machine is choices else (best_answers, challenge_paper):
+                spoil(call(machine))
+        self.assertEqual(shown([choices, menu]), before)
 
     def test_chains_never_change(self):
         rows, labels = ((h, h), (0, 1)), ("a", "b")

@@ -54,6 +54,25 @@ FUNCTIONS = {
         "gather_word": "draw", "stuck": "draw", "is_stuck": "draw thing", "gather_mean": "draw",
         "gather_shares": "draw n",
     },
+    "choices": {
+        "worths": "choices way", "best_worths": "choices", "best_way": "choices", "is_best_worths": "choices thing",
+        "way_chain": "choices way labels",
+    },
+    "bounds": {"worth_bounds": "choices"},
+    "both": {"tried": "walk shares", "walked": "chain state shares"},
+    "texts": {"written": "chain", "written_ties": "chain ties", "read": "text", "read_ties": "chain text"},
+    "menus": {"single": "chain"},
+    "menulumps": {"menu_lumps": "menu", "is_menu_lumping": "menu thing"},
+    "duels": {
+        "duel_distances": "menu", "duel_distance": "menu s t", "best_challenges": "menu", "best_answers": "menu",
+    },
+    "duelling": {
+        "duel_share": "menu challenges answers s t", "won_within": "menu challenges answers s t n",
+    },
+    "duelpapers": {
+        "answer_paper": "menu s t", "challenge_paper": "menu", "is_answer_paper": "menu thing",
+        "is_challenge_paper": "menu thing",
+    },
 }
 METHODS = {
     "shares": {"Share": {"__init__": "top bottom", "over": "other", "less": "other"}},
@@ -67,6 +86,27 @@ METHODS = {
         "Order": {"__init__": "size pairs", "below": "s t", "pairs": "", "turned": "", "__eq__": "other"},
     },
     "draws": {"Draw": {"__init__": "parts", "rows": "", "ties": "", "__eq__": "other"}},
+    "choices": {
+        "Choices": {"__init__": "moves factor", "names": "state", "pay": "state name", "row": "state name"},
+    },
+    "keepers": {
+        "Keeper": {
+            "__init__": "chain", "keep": "paper", "papers": "", "row": "state spread", "label": "state name", "undo": "",
+        },
+    },
+    "both": {
+        "Both": {
+            "__init__": "chain ties s t", "step": "share", "trial": "shares", "__enter__": "",
+            "__exit__": "kind value trace",
+        },
+    },
+    "menus": {
+        "Menu": {
+            "__init__": "moves labels", "options": "state", "label": "state", "spread": "state option",
+            "followed": "way", "__eq__": "other",
+        },
+    },
+    "duelling": {"Duel": {"__init__": "menu answers s t", "step": "challenge share", "back": ""}},
 }
 
 
